@@ -3,7 +3,7 @@
 The errors' words never show what was handed in: some values can't be written out.
 """
 
-from placechange.errors import BadDance, BadOrder
+from placechange.errors import BadDance, BadOrder, Unlike
 
 MOST_DANCERS = 7
 MOST_STEPS = 30
@@ -46,6 +46,13 @@ def check_count(dancers):
 def check_order(order):
     if not is_order(order):
         raise BadOrder("no order")
+
+
+def check_both(one, other):
+    check_order(one)
+    check_order(other)
+    if len(one) != len(other):
+        raise Unlike("orders of other counts of dancers")
 
 
 def check_dance(dancers, dance):

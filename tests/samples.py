@@ -138,3 +138,10 @@ def no_dances(dancers):
         if dancers > 1:
             dances.extend([[0, value], [value, 0]])
     return dances
+
+
+def no_texts():
+    return [
+        None, 0, 1, VAST, -VAST, True, False, 0.0, 0j, [], [0], ["0"], (), (0,), ("0", "0"), {}, {"0": 0}, {"0"},
+        frozenset(), b"", b"0", bytearray(b"0"), memoryview(b"0"), range(0), iter("0"), len, str, Stranger(),
+    ]

@@ -52,7 +52,8 @@ class KeepsToTheLanguage(unittest.TestCase):
     def setUp(self):
         self.texts = {path.name: path.read_text("ascii") for path in sorted(FOLDER.glob("*.py"))}
         self.trees = {name: ast.parse(text) for name, text in self.texts.items()}
-        self.assertIn("moves.py", self.trees)
+        for name in ("errors", "orders", "moves", "ways", "columns", "texts"):
+            self.assertIn(name + ".py", self.trees)
 
     def nodes(self, kind):
         return [(name, node) for name, tree in self.trees.items() for node in ast.walk(tree) if isinstance(node, kind)]
@@ -130,6 +131,31 @@ class KeepsToTheLanguage(unittest.TestCase):
         for name, tree in self.trees.items():
             drawn = [alias.name for row in tree.body if isinstance(row, ast.ImportFrom) for alias in row.names]
             self.assertFalse(set(drawn) & set(bound_names(tree)), name)
+
+    def test_no_local_is_called_like_a_class(self):
+        for name, tree in self.trees.items():
+            classes = {row.name for row in tree.body if isinstance(row, ast.ClassDef)}
+            for node in ast.walk(tree):
+                if isinstance(node, ast.Name) and isinstance(node.ctx, ast.Store):
+                    self.assertNotIn(node.id, classes, (name, node.lineno))
+                if isinstance(node, ast.arg):
+                    self.assertNotIn(node.arg, classes, (name, node.lineno))
+
+    def test_each_name_is_bound_once_at_a_files_top(self):
+        for name, tree in self.trees.items():
+            bound = [row.name for row in tree.body if hasattr(row, "name")]
+            bound += [row.targets[0].id for row in tree.body if isinstance(row, ast.Assign)]
+            bound += [alias.name for row in tree.body if isinstance(row, ast.ImportFrom) for alias in row.names]
+            self.assertEqual(len(set(bound)), len(bound), name)
+
+    def test_values_of_objects(self):
+        methods = {method.name for name, node in self.nodes(ast.ClassDef) for method in node.body
+                   if isinstance(method, ast.FunctionDef)}
+        barred = {word for kind in (str, int, list, tuple, dict, set, bytes, ValueError) for word in dir(kind)}
+        for name, node in self.nodes(ast.Attribute):
+            if isinstance(node.ctx, ast.Store):
+                self.assertNotIn(node.attr, methods, (name, node.lineno))
+                self.assertNotIn(node.attr, barred, (name, node.lineno))
 
     def test_methods(self):
         own = {node.name for name, node in self.nodes(ast.FunctionDef)}
